@@ -1,0 +1,1 @@
+"""Groupdeeds: groups join, and people leave."""
