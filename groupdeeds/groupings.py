@@ -10,7 +10,8 @@ def lots_of(marks):
     lots = {}
     for person, mark in enumerate(marks):
         lots.setdefault(mark, []).append(person)
-    return tuple(sorted([tuple(lot) for lot in lots.values()]))
+    # Each lot is begun by its least person, so the lots ascend too.
+    return tuple([tuple(lot) for lot in lots.values()])
 
 
 def marks_of(grouping):
@@ -60,6 +61,13 @@ def groupings(size):
     for _ in range(size):
         words = [word + (mark,) for word in words for mark in range(max(word, default=-1) + 2)]
     return tuple(sorted([lots_of(word) for word in words]))
+
+
+def step_numbers(size):
+    """Return, for each grouping and each step, both ascending, the number of the grouping behind it."""
+    known = groupings(size)
+    numbers = {grouping: at for at, grouping in enumerate(known)}
+    return [[numbers[stepped(grouping, step)] for step in all_steps(size)] for grouping in known]
 
 
 def grouping_count(size):

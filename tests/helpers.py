@@ -123,6 +123,23 @@ def bad_drawings(size):
     return no_drawings() + bads_of(errors.BadDrawing, others)
 
 
+def bad_prices(size):
+    """Return values that are no prices of a size, those of other sizes too."""
+    leaves, joins = (1,) * size, (1,) * (size * (size - 1) // 2)
+    values = STRANGE + (0, 1, (), (leaves,), (leaves, joins, ()), [leaves, joins], (list(leaves), joins)) + (
+        (leaves, list(joins)), (leaves + (1,), joins), (leaves[1:], joins), (leaves, joins + (1,)), (joins, None),
+        (None, joins), (leaves, None), (leaves, 1), (1, joins), ((), ()), (leaves[1:] + (-1,), joins), "11",
+        (leaves[1:] + (1001,), joins), ((True,) + leaves[1:], joins), (leaves[1:] + (None,), joins),
+        (leaves[1:] + ("1",), joins), (leaves[1:] + ((1,),), joins), ((HUGE,) + leaves[1:], joins),
+        {0: leaves, 1: joins}, ((1,) * (size + 1), (1,) * (size * (size + 1) // 2)), (leaves, joins, 0),
+    )
+    if joins:
+        for price in (-1, 1001, True, False, None, "1", (1,), HUGE, -HUGE):
+            values = values + ((leaves, (price,) + joins[1:]), (leaves, joins[1:] + (price,)))
+        values = values + ((leaves, joins[1:]), ((1,) * (size - 1), (1,) * ((size - 1) * (size - 2) // 2)))
+    return bads_of(errors.BadPrices, values)
+
+
 def plain_parts(people):
     """Return all ways to part a list of people: the first one with each of the ways to choose who is with it."""
     if not people:

@@ -124,8 +124,10 @@ class Language(unittest.TestCase):
         for name, text in files():
             self.assertEqual(WORDS.findall(text), [], name)
 
-    def test_no_sets_but_in_len(self):
-        self.assertEqual(nodes((ast.Set, ast.SetComp)), [])
+    def test_sets_are_sorted_at_once(self):
+        calls = [node for _, node in nodes(ast.Call) if isinstance(node.func, ast.Name) and node.func.id == "sorted"]
+        at_once = [call.args[0].lineno for call in calls if isinstance(call.args[0], ast.SetComp)]
+        self.assertEqual(len(nodes((ast.Set, ast.SetComp))), len(at_once))
 
     def test_docstrings(self):
         for name, text in files():
