@@ -1,6 +1,6 @@
 """What is a size, a grouping, a step, a row and a drawing, and the errors for other values."""
 
-from groupdeeds.errors import BadCount, BadDrawing, BadGrouping, BadRow, BadSize, BadStep
+from groupdeeds.errors import BadCount, BadDrawing, BadGrouping, BadPerson, BadRow, BadSize, BadStep, TooMany
 
 MOST_PEOPLE = 6
 MOST_STEPS = 40
@@ -63,6 +63,13 @@ def is_row(value, size, most=MOST_STEPS):
     return isinstance(value, tuple) and len(value) <= most and all([is_step(step, size) for step in value])
 
 
+def is_numbered_row(value, size, most):
+    """Return whether a value is a pair of an integer and a tuple of at most so many steps of a size."""
+    if not isinstance(value, tuple) or len(value) != 2:
+        return False
+    return is_integer(value[0]) and is_row(value[1], size, most)
+
+
 def is_drawn_pair(value):
     """Return whether a value may be a pair of a drawing."""
     if not isinstance(value, tuple) or len(value) != 2:
@@ -94,6 +101,18 @@ def check_count(value, least, most):
     """Raise an error for a value that is no integer within bounds."""
     if not is_integer_from(value, least, most):
         raise BadCount(f"not an integer from {least} to {most}")
+
+
+def check_person(value, size):
+    """Raise an error for a value that is no person of a size."""
+    if not is_integer_from(value, 0, size - 1):
+        raise BadPerson(f"not a person of size {size}")
+
+
+def check_few(size, most):
+    """Raise an error for a size of more people than the most that are taken."""
+    if size > most:
+        raise TooMany(most)
 
 
 def check_grouping(value):

@@ -1,10 +1,9 @@
 """What rows lead to: all deeds, drawings behind drawings, and shortest rows of deeds."""
 
-from groupdeeds.checks import check_drawing, check_drawings, check_size, drawing_size, is_row
+from groupdeeds.checks import check_drawing, check_drawings, check_few, check_size, drawing_size, is_row
 from groupdeeds.coming import check_coming, is_coming, row_to
 from groupdeeds.deeds import plain_of
 from groupdeeds.drawings import composed, made_of, ordered, row_drawing, tie_count
-from groupdeeds.errors import TooMany
 from groupdeeds.groupings import all_steps, groupings, step_numbers
 
 MOST_FOR_ALL_DEEDS = 3
@@ -88,15 +87,13 @@ def check_short(drawing):
     """Raise an error for a value that is no drawing of at most 4 people that comes."""
     check_drawing(drawing)
     check_coming(drawing)
-    if drawing_size(drawing) > MOST_FOR_SHORTEST:
-        raise TooMany(MOST_FOR_SHORTEST)
+    check_few(drawing_size(drawing), MOST_FOR_SHORTEST)
 
 
 def deeds(size):
     """Return the ascending tuple of the plain drawings of all deeds of rows."""
     check_size(size)
-    if size > MOST_FOR_ALL_DEEDS:
-        raise TooMany(MOST_FOR_ALL_DEEDS)
+    check_few(size, MOST_FOR_ALL_DEEDS)
     return tuple(sorted({plain_of(made) for made in all_drawings(size) if is_coming(made)}))
 
 
