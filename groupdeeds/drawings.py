@@ -51,6 +51,11 @@ def row_drawing(size, row):
     return made
 
 
+def turned(drawing):
+    """Return a good drawing with all points before and behind exchanged."""
+    return ordered([(pair[1], pair[0]) for pair in drawing])
+
+
 def tie_count(drawing):
     """Return the number of ties of a good drawing."""
     return len([pair for pair in drawing if pair[0] and pair[1]])
@@ -98,7 +103,7 @@ def drawing(size, row):
 def mirrored(drawing):
     """Return the drawing with all points before and behind exchanged."""
     check_drawing(drawing)
-    return ordered([(pair[1], pair[0]) for pair in drawing])
+    return turned(drawing)
 
 
 def is_still(drawing):

@@ -1,6 +1,7 @@
 """Steps with prices: cheapest rows, and papers for what cannot be cheaper."""
 
-from groupdeeds.checks import check_grouping, check_groupings, grouping_size, is_integer, is_integer_from, is_row
+from groupdeeds.checks import check_grouping, check_groupings, grouping_size, is_integer, is_integer_from
+from groupdeeds.checks import is_numbered_row
 from groupdeeds.errors import BadPrices
 from groupdeeds.groupings import all_stepped, all_steps, groupings, step_numbers, stepped
 
@@ -32,14 +33,15 @@ def step_prices(size, prices):
     return {step: found[step] for step in all_steps(size)}
 
 
-def least_ways(goal, prices):
-    """Return a dict with, for each grouping, the least price of a way to the goal and its fewest steps."""
-    size = grouping_size(goal)
-    known = groupings(size)
-    behind = step_numbers(size)
-    costs = list(step_prices(size, prices).values())
-    # No way without detours is as dear as this.
-    ways = [(0, 0) if grouping == goal else (MOST_PRICE * len(known), 0) for grouping in known]
+def cheaper_ways(ends, prices):
+    """Return a dict with, for each grouping, the least pair (price, steps) of a way to whatever end.
+
+    The ends are a dict with, for each grouping, ascending, the price of being there at last.
+    """
+    known = list(ends)
+    behind = step_numbers(grouping_size(known[0]))
+    costs = list(step_prices(grouping_size(known[0]), prices).values())
+    ways = [(price, 0) for price in ends.values()]
     better = True
     while better:
         better = False
@@ -49,6 +51,26 @@ def least_ways(goal, prices):
                 ways[at] = way
                 better = True
     return {grouping: ways[at] for at, grouping in enumerate(known)}
+
+
+def least_ways(goal, prices):
+    """Return a dict with, for each grouping, the least price of a way to the goal and its fewest steps."""
+    known = groupings(grouping_size(goal))
+    # No way without detours is as dear as this.
+    dear = MOST_PRICE * len(known)
+    return cheaper_ways({grouping: 0 if grouping == goal else dear for grouping in known}, prices)
+
+
+def row_along(start, least, costs):
+    """Return the row of steps from a start that the least pairs (price, steps) of all groupings tell."""
+    row = ()
+    here = start
+    while least[here][1] > 0:
+        price, many = least[here]
+        fitting = [step for step in costs if least[stepped(here, step)] == (price - costs[step], many - 1)]
+        row = row + (fitting[0],)
+        here = stepped(here, fitting[0])
+    return row
 
 
 def is_paper(numbers, costs):
@@ -64,16 +86,8 @@ def cheap_row(start, goal, prices):
     """Return the pair (price, row) of a cheapest tuple of steps that makes the goal of the start."""
     check_groupings(start, goal)
     check_prices(prices, grouping_size(start))
-    costs = step_prices(grouping_size(start), prices)
     least = least_ways(goal, prices)
-    row = ()
-    here = start
-    while here != goal:
-        price, many = least[here]
-        fitting = [step for step in costs if least[stepped(here, step)] == (price - costs[step], many - 1)]
-        row = row + (fitting[0],)
-        here = stepped(here, fitting[0])
-    return (least[start][0], row)
+    return (least[start][0], row_along(start, least, step_prices(grouping_size(start), prices)))
 
 
 def shows_cheap_row(start, goal, prices, value):
@@ -81,10 +95,10 @@ def shows_cheap_row(start, goal, prices, value):
     check_groupings(start, goal)
     size = grouping_size(start)
     check_prices(prices, size)
-    if not isinstance(value, tuple) or len(value) != 2:
+    if not is_numbered_row(value, size, MOST_CHEAP_STEPS):
         return False
     price, row = value
-    if not is_integer(price) or not is_row(row, size, MOST_CHEAP_STEPS) or all_stepped(start, row) != goal:
+    if all_stepped(start, row) != goal:
         return False
     costs = step_prices(size, prices)
     return sum([costs[step] for step in row]) == price and price == least_ways(goal, prices)[start][0]
