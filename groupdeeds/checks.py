@@ -58,6 +58,13 @@ def is_step(value, size):
     return is_lot(value) and len(value) <= 2 and value[-1] < size
 
 
+def is_pairs(value, size):
+    """Return whether a value is an ascending tuple of pairs of people of a size, the lesser one first in each."""
+    if not isinstance(value, tuple) or not all([is_step(pair, size) and len(pair) == 2 for pair in value]):
+        return False
+    return is_ascending(value)
+
+
 def is_row(value, size, most=MOST_STEPS):
     """Return whether a value is a tuple of at most so many steps of a size."""
     return isinstance(value, tuple) and len(value) <= most and all([is_step(step, size) for step in value])
@@ -89,6 +96,16 @@ def is_drawing(value):
 def drawing_size(drawing):
     """Return the size of a drawing."""
     return sum([len(pair[0]) for pair in drawing])
+
+
+def is_some(value, most):
+    """Return whether a value is a tuple of 1 to so many things."""
+    return isinstance(value, tuple) and 1 <= len(value) <= most
+
+
+def wrong_groupings(things, size):
+    """Return the list of the indexes of the things that are no groupings of a size."""
+    return [at for at, thing in enumerate(things) if not is_grouping_of(thing, size)]
 
 
 def check_size(value):

@@ -22,14 +22,19 @@ def is_once_each(things):
     return all([things.count(thing) == 1 for thing in things])
 
 
+def are_matched(value, firsts, seconds):
+    """Return whether a value is an ascending tuple of pairs of indexes of so many lots and others, none twice."""
+    if not isinstance(value, tuple) or not all([is_index_pair(pair, firsts, seconds) for pair in value]):
+        return False
+    if not is_ascending(value):
+        return False
+    return is_once_each([pair[0] for pair in value]) and is_once_each([pair[1] for pair in value])
+
+
 def check_ties(value, before, behind):
     """Raise an error for a value that is no ascending tuple of pairs of indexes of lots, none twice on a side."""
-    if not isinstance(value, tuple) or not all([is_index_pair(pair, len(before), len(behind)) for pair in value]):
-        raise BadTies("not a tuple of pairs of indexes")
-    if not is_ascending(value):
-        raise BadTies("the pairs do not ascend")
-    if not is_once_each([pair[0] for pair in value]) or not is_once_each([pair[1] for pair in value]):
-        raise BadTies("an index stands twice on a side")
+    if not are_matched(value, len(before), len(behind)):
+        raise BadTies("not an ascending tuple of pairs of indexes, none twice on a side")
 
 
 def lots_by_tie(drawing, side):

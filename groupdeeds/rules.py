@@ -1,7 +1,7 @@
 """Rules for who may leave and who may join, and what steps within them lead to."""
 
 from groupdeeds.checks import check_grouping, check_groupings, check_size, grouping_size, is_ascending, is_integer_from
-from groupdeeds.checks import is_step
+from groupdeeds.checks import is_pairs
 from groupdeeds.errors import BadRule
 from groupdeeds.groupings import groupings, stepped
 
@@ -15,20 +15,13 @@ def is_people(value, size):
     return is_ascending(value)
 
 
-def is_joinings(value, size):
-    """Return whether a value is an ascending tuple of pairs of people of a size, the lesser one first in each."""
-    if not isinstance(value, tuple) or not all([is_step(pair, size) and len(pair) == 2 for pair in value]):
-        return False
-    return is_ascending(value)
-
-
 def check_rule(value, size):
     """Raise an error for a value that is no rule of a size."""
     if not isinstance(value, tuple) or len(value) != 3:
         raise BadRule(None)
     if not is_people(value[0], size):
         raise BadRule(0)
-    if not is_joinings(value[1], size):
+    if not is_pairs(value[1], size):
         raise BadRule(1)
     if not is_integer_from(value[2], 1, MOST_TOGETHER):
         raise BadRule(2)

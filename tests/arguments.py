@@ -156,3 +156,20 @@ def bad_ties(before, behind):
     if firsts > 1 and seconds > 1:
         values = values + (((1, 1), (0, 0)), ((1, 0), (0, 1)), ((0, 0), (1, 1), (1, 1)), ((0, 0), (1, seconds)))
     return bads_of(errors.BadTies, values)
+
+
+def bad_many(error, size, most):
+    """Return values that are no tuples of 1 to so many groupings of a size: no such tuples, and bad ones in them."""
+    good = plain_groupings(size)[-1]
+    values = STRANGE + (0, 1, (), [good], [good] * 2, (good,) * (most + 1), (None,) * (most + 1), {0: good}, "12")
+    found = bads_of(error, values, index=None)
+    for bad in bad_groupings(size):
+        for at in (0, 1, most - 1):
+            some = (good,) * at + (bad[2],) + (good,) * (most - 1 - at)
+            found = found + bads_of(error, (some, some[:at + 1], some[:at + 1] + (None,) * (most - 1 - at)), index=at)
+    return found
+
+
+def no_texts():
+    return bads_of(errors.NotText, [value for value in STRANGE if not isinstance(value, str)] + [
+        0, 1, (), ("0",), ["0"], {"0": "0"}, (("0",),), ((0,),), ((0, 1),)])

@@ -7,6 +7,7 @@ import re
 import unittest
 
 FOLDER = os.path.join(os.path.dirname(os.path.dirname(os.path.abspath(__file__))), "groupdeeds")
+OWN_METHODS = set("leave groups steps drawing undo _take".split())
 BUILTINS = set("""len range enumerate zip min max sum abs sorted reversed int str bool bytes list tuple dict set
     frozenset isinstance ord repr any all divmod getattr hasattr setattr map super ValueError TypeError KeyError
     IndexError""".split())
@@ -118,7 +119,7 @@ class Language(unittest.TestCase):
     def test_methods(self):
         for name, node in nodes(ast.Call):
             if isinstance(node.func, ast.Attribute):
-                self.assertIn(node.func.attr, METHODS, f"{name}: {node.lineno}")
+                self.assertIn(node.func.attr, METHODS | OWN_METHODS, f"{name}: {node.lineno}")
             words = set(word.arg for word in node.keywords)
             self.assertLessEqual(words, {"default", "key", "reverse"}, f"{name}: {node.lineno}")
 
