@@ -92,6 +92,19 @@ def bad_sights(size):
     return found
 
 
+def wrong_pairs(size):
+    """Return tuples that are no ascending tuples of pairs of people of a size, the lesser one first in each."""
+    good = tuple(step for step in plain_steps(size) if len(step) == 2)
+    pairs = ((0,), ((0,),), ((0, size),), ((1, 0),), ((0, 0),), ((-1, 0),), ((0, True),), ((False, 1),), ([0, 1],),
+             ((0, 1, 2),), (("0", "1"),), (None,), ((),), ((0, HUGE),), (0, 1), good + (None,), good + ((0, size),),
+             good + ((0, 1),), good + ((0,),), ("01",), ({0: 1},), ((size, size + 1),), (((0,), (1,)),))
+    if size > 1:
+        pairs = pairs + (((0, 1), (0, 1)),)
+    if size > 2:
+        pairs = pairs + (((0, 2), (0, 1)), ((1, 2), (0, 2)), good[::-1])
+    return pairs
+
+
 def bad_rules(size):
     """Return values that are no rules of a size: no triples, and bad parts in each place."""
     good = ((0,), tuple(step for step in plain_steps(size) if len(step) == 2), 6)
@@ -99,13 +112,9 @@ def bad_rules(size):
     found = found + bads_of(errors.BadRule, ({0: (), 1: (), 2: 1}, (1,), "012"[:2]), index=None)
     sides = (None, 0, True, "0", [0], [], {}, (size,), (-1,), (True,), (False,), (0, 0), (None,), ("0",), ((0,),),
              (HUGE,), tuple(range(size + 1)), tuple(range(size))[::-1] + (0,), ([0],), (0, None))
-    pairs = (None, 0, True, "01", [(0, 1)], [], {}, (0,), ((0,),), ((0, size),), ((1, 0),), ((0, 0),), ((-1, 0),),
-             ((0, True),), ((False, 1),), ([0, 1],), ((0, 1, 2),), (("0", "1"),), (None,), ((),), ((0, HUGE),), (0, 1),
-             good[1] + (None,), good[1] + ((0, size),), good[1] + ((0, 1),), good[1] + ((0,),))
+    pairs = (None, 0, True, "01", [(0, 1)], [], {}) + wrong_pairs(size)
     if size > 1:
-        sides, pairs = sides + ((1, 0),), pairs + (((0, 1), (0, 1)),)
-    if size > 2:
-        pairs = pairs + (((0, 2), (0, 1)), ((1, 2), (0, 2)), good[1][::-1])
+        sides = sides + ((1, 0),)
     for wrong in sides:
         found = found + bads_of(errors.BadRule, ((wrong,) + good[1:], (wrong, None, 0)), index=0)
     for wrong in pairs:
@@ -173,3 +182,31 @@ def bad_many(error, size, most):
 def no_texts():
     return bads_of(errors.NotText, [value for value in STRANGE if not isinstance(value, str)] + [
         0, 1, (), ("0",), ["0"], {"0": "0"}, (("0",),), ((0,),), ((0, 1),)])
+
+
+def bad_told(size):
+    """Return values that are no told pairs of a size: no pairs of tuples, and wrong pairs on each side."""
+    good = tuple(step for step in plain_steps(size) if len(step) == 2)
+    values = STRANGE + (0, 1, (), ((),), ((), (), ()), [(), ()], ([], ()), ((), []), (None, ()), ((), None), ({}, ()))
+    values = values + ((0, ()), ((), 0), ("", ""), ((), "01"), (wrong_pairs(size)[0], None), {0: (), 1: ()}, (True, ()))
+    found = bads_of(errors.BadTold, values, index=None)
+    for wrong in wrong_pairs(size):
+        found = found + bads_of(errors.BadTold, ((wrong, ()), (wrong, good), (wrong, wrong)), index=0)
+        found = found + bads_of(errors.BadTold, (((), wrong), (good, wrong)), index=1)
+    return found
+
+
+def bad_words():
+    values = STRANGE + (0, 1, (), (1,), (2,), (-1,), (0, 2), (0, -1), (0, 1, 3), (0, 0, 2), (0, 1, 1, 3), (1, 0), (0,) * 7)
+    values = values + (tuple(range(7)), (True,), (False,), (0, True), (0, False), ("0",), (None,), (0, None), (0, "1"), [0, 1])
+    values = values + ((0, HUGE), (HUGE,), ((0,),), (0, (1,)), "01", {0: 0}, ({},), (0, 1, 2, 3, 4, 6), (0, 1, 0, -1))
+    return bads_of(errors.BadWord, values)
+
+
+def bad_crowds(many=None):
+    """Return values that are no crowds, and crowds of other numbers of people than this one, if it is told."""
+    values = STRANGE + (0, 1, (), (-1,), (1000,), (HUGE,), (0,) * 201, (True,), (False,), ("0",), (None,), [0], [0, 1])
+    values = values + ((0, None), (0, True), (0, -1), (999, 1000), ((0,),), (0, (1,)), "01", {0: 0}, ({},), (0,) * 500)
+    values = values + ((0,) * 199 + (1000,), (0,) * 199 + (False,), (-1,) + (0,) * 199)
+    others = [] if many is None else [(0,) * other for other in (1, 2, 3, 6, 199, 200) if other != many]
+    return bads_of(errors.BadCrowd, values + tuple(others))
