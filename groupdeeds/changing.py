@@ -68,8 +68,8 @@ def shows_changed_row(start, row, goal, value):
     """Return whether a value is the pair (changes, row) of a row changed in the fewest places, or rightly None."""
     check_change(start, row, goal)
     many = fewest_changes(start, row, goal)
-    if value is None or many is None:
-        return value is None and many is None
+    if value is None:
+        return many is None
     if not is_numbered_row(value, grouping_size(start), len(row)) or len(value[1]) != len(row):
         return False
     if all_stepped(start, value[1]) != goal:

@@ -1,4 +1,4 @@
-"""What the tests of chances, sights, rules, likings, names and parts need: good arguments, and those not allowed."""
+"""What the tests of points 11 to 30 need: good arguments, and those that are not allowed."""
 
 from fractions import Fraction
 from math import gcd
